@@ -1,0 +1,1 @@
+"""Cuetimer: the timing of words beneath pictures."""
