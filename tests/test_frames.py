@@ -6,6 +6,7 @@ import unittest
 from cuetimer.errors import CueError, NoLabel
 from cuetimer.frames import frame_of, is_label, label_of
 from cuetimer.kinds import is_whole
+from tests.odd_things import Hostile, in_each_place
 
 NUMBERINGS = [
     (30, 2, 10), (60, 4, 10), (30, 0, 10), (25, 0, 1), (25, 0, 60), (24, 3, 59), (50, 1, 2), (100, 7, 3),
@@ -191,18 +192,6 @@ class Order(unittest.TestCase):
             frames = [frame_of(numbering, label) for label in labels]
             with self.subTest(numbering=numbering):
                 self.assertEqual(frames, sorted(set(frames)))
-
-
-def in_each_place(label, thing):
-    return [label[:place] + (thing,) + label[place + 1:] for place in range(4)]
-
-
-class Hostile:
-    def __eq__(self, other):
-        raise RuntimeError("not to be asked")
-
-    __hash__ = None
-    __len__ = __iter__ = __repr__ = __str__ = __eq__
 
 
 class WhatIsNoLabel(unittest.TestCase):
