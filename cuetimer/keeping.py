@@ -29,7 +29,7 @@ def is_ring(rules, numbers):
 
 
 def raise_points(rules, times, raisers):
-    """Raise the high points as the rules ask, keep by which rule each was raised, and tell one, or None."""
+    # Who was raised last is told, None once nobody is; by which rule each was raised is kept for the ring.
     raised = None
     for number, rule in enumerate(rules):
         if must_be_kept(rule) and times[rule[0]] + rule[2] > times[rule[1]]:

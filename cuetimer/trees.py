@@ -73,7 +73,7 @@ class Tree:
         return rule[2] - self.times[rule[1]] + self.times[rule[0]]
 
     def mend(self, number):
-        """Send as much as can be round the ring of a wrong rule, and let it hang where nothing more can go."""
+        # The way round goes from the top down to the tail, through the wrong rule to the head, and up again.
         rule = self.rules[number]
         more = self.lack_of(number) > 0
         tail = rule[0] if more else rule[1]
@@ -124,7 +124,7 @@ class Tree:
         return self.bounds[number] - self.flow[number] if step[2] else self.flow[number]
 
     def hang(self, leaving, inner, number):
-        """Hang all that is under the leaving point by a rule that names the inner point, which is among it."""
+        # The inner point is the one of the rule's two that hangs under the leaving one: it now comes out on top there.
         rule = self.rules[number]
         lack = self.lack_of(number)
         points = self.way(inner, self.over[leaving])

@@ -129,6 +129,10 @@ class Language(unittest.TestCase):
             self.assertEqual(len(node.targets), 1, where)
         for where, node in self.each_node(ast.For, ast.While):
             self.assertEqual(node.orelse, [], where)
+        for tree in self.trees.values():
+            for node in ast.walk(tree):
+                if isinstance(node, ast.Expr) and node is not tree.body[0]:
+                    self.assertIsInstance(node.value, ast.Call, node.lineno)
         for where, node in self.each_node(ast.Constant):
             self.assertNotIsInstance(node.value, (float, complex, bytes), where)
         for where, node in self.each_node(ast.BinOp, ast.AugAssign):
